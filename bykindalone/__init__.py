@@ -1,0 +1,1 @@
+"""Bykindalone: programs for things of any kind, and what their kinds tell of them."""
