@@ -49,11 +49,13 @@ def run_file(python, path):
         env=dict(os.environ, PYTHONPATH=os.pathsep.join(paths)), stdout=subprocess.PIPE, stderr=subprocess.STDOUT,
     )
     print(f"{path}\n{done.stdout}", flush=True)
-    ran = sum(int(many) for many in re.findall(r"^Ran (\d+) tests? in ", done.stdout, re.MULTILINE))
+    counts = re.findall(r"^Ran (\d+) tests? in ", done.stdout, re.MULTILINE)
+    ran = sum(int(many) for many in counts)
     last = done.stdout.strip().split("\n")[-1]
     told = {word: int(many) for word, many in re.findall(r"([a-z][a-z ]*)=(\d+)", last)}
     failed = sum(told.get(word, 0) for word in ("failures", "errors", "unexpected successes"))
-    if done.returncode not in (0, NO_TESTS) or (done.returncode == NO_TESTS and ran > 0):
+    whole = done.returncode == 0 or (done.returncode == NO_TESTS and ran == 0)
+    if not whole or not counts:
         failed = max(failed, 1)
     return ran, failed, told.get("skipped", 0)
 
