@@ -32,6 +32,10 @@ INTERFACE = {
     ),
     "kinds": "is_kind is_data_kind is_closed_kind depth_of_kind variables_of",
     "values": "is_value order",
+    "terms": "is_name is_term is_written parts_of depth_of free_names part_at",
+    "text": "read_kind read_term read_value show_kind show_term show_value",
+    "kinding": "kind_of filled",
+    "promises": "promise_of promise_text equation_text",
 }
 
 

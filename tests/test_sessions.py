@@ -19,6 +19,58 @@ SESSIONS = r"""
 [True, False, False, True, True]
 >>> [order(row, some, some[:2]), order(row, some[:1], (("right", ()),)), order(row, (), ())]
 [1, -1, 0]
+
+>>> from bykindalone.terms import depth_of, free_names, is_name, is_term, is_written, part_at, parts_of
+>>> ahead = ("fn", "x", a, ("cons", ("name", "x"), ("name", "y")))
+>>> [is_name("x1"), is_name("fold"), is_name("1x"), parts_of(ahead), depth_of(ahead), free_names(ahead), part_at(ahead, (3, 1)), part_at(ahead, (2,))]
+[True, False, False, 4, 3, ('y',), ('name', 'x'), None]
+>>> [is_term(("let", "x", ("name", "x"), ("name", "x"))), free_names(("let", "x", ("name", "x"), ("name", "x"))), is_term(("number", True)), is_written(("nil", a))]
+[True, ('x',), False, True]
+
+>>> from bykindalone.text import read_kind, read_term, read_value, show_kind, show_term, show_value
+>>> [show_kind(turn), show_kind(("fun", ("fun", a, b), ("either", a, ("either", num, row)))), read_kind("a|b|c") == ("either", ("either", a, b), ("var", "c"))]
+['a -> list (b, a)', '(a -> b) -> a | (num | list (num | unit))', True]
+>>> [show_value(row, some), read_value(row, "[left(3),right(( )),left(-1)]") == some, show_value(row, ()), show_value(TRUTH, ("left", ()))]
+['[left(3), right(()), left(-1)]', True, '[]', 'left(())']
+>>> show_term(("call", ahead, ("minus", ("number", 3))))
+'(fn x: a. cons(x, y))(-(3))'
+>>> [read_term("fn x:a.cons(x,y)") == ahead, read_term("- 3"), read_term("-3"), show_term(("times", ("plus", ("name", "a"), ("number", -1)), ("minus", ("name", "b"))))]
+[True, ('minus', ('number', 3)), ('number', -3), '(a + -1) * -b']
+>>> show_term(read_term("case a<b{u.nil(list a);w.fold(f,nil(list a),v)}"))
+'case a < b {u. nil(list a); w. fold(f, nil(list a), v)}'
+>>> read_term("f(a, b)")
+raises InvalidText(line=1, column=4)
+>>> read_term("let x = 1\n  x + 1")
+raises InvalidText(line=2, column=3)
+>>> read_kind("list a b")
+raises InvalidText(line=1, column=8)
+>>> read_kind("a ->\n")
+raises InvalidText(line=2, column=1)
+"""
+# Here the document says what is known from its session of relations first.
+SESSION_OF_PROMISES = r"""
+>>> num, unit, a = ("num",), ("unit",), ("var", "a")
+>>> truth, row, yes, no = ("either", unit, unit), ("list", a), ("left", ()), ("right", ())
+>>> from bykindalone.promises import equation_text, promise_of, promise_text
+>>> promise_of(("fun", a, num))
+('all', 1, ('var', 'a'), ('by', 'a', ('x', 1), ('y', 1)), ('same', ('told', ('one',), ('x', 1)), ('told', ('two',), ('y', 1))))
+>>> promise_text(("fun", row, row))
+'(all x1, y1 of list a with (x1 and y1 are as long, each x2, y2 with x2 ~a y2) have (one(x1) and two(y1) are as long, each x3, y3 with x3 ~a y3))'
+>>> [promise_text(("pair", a, truth)), promise_text(("either", unit, a)), equation_text(("fun", row, ("fun", num, a)))]
+['(one.first ~a two.first and one.second = two.second)', '(one and two are left x1, y1 with x1 = y1 or right x1, y1 with x1 ~a y1)', 'turned one(x1)(x2) = two(turned x1)(x2)']
+>>> equation_text(("fun", ("fun", a, a), a))
+raises InvalidKind(given=('fun', ('fun', ('var', 'a'), ('var', 'a')), ('var', 'a')))
+"""
+# Of the document's session behind putters what it shows of kinds of terms; told is of a module of its own.
+SESSION_OF_KINDING = r"""
+>>> from bykindalone.kinding import filled, kind_of
+>>> num, unit, a = ("num",), ("unit",), ("var", "a")
+>>> rows, truth, x, r, l, p = ("list", a), ("either", unit, unit), ("name", "x"), ("name", "r"), ("name", "l"), ("name", "p")
+>>> twice = ("fn", "l", rows, ("fold", ("fn", "x", a, ("fn", "r", rows, ("cons", x, ("cons", x, r)))), ("nil", a), l))
+>>> [kind_of((), twice), filled(rows, (("a", num),))]
+[('fun', ('list', ('var', 'a')), ('list', ('var', 'a'))), ('list', ('num',))]
+>>> kind_of((("x", a),), ("plus", x, ("number", 1)))
+raises WrongTerm(place=(1,))
 """
 
 
@@ -43,18 +95,30 @@ def answer_to(said, names):
 
 
 class TestSessions(unittest.TestCase):
-    def test_each_step_is_answered_as_it_stands_there(self):
+    def go_through(self, text):
         names = {}
-        for said, answered in steps_of(SESSIONS):
+        for said, answered in steps_of(text):
             with self.subTest(said):
                 if answered is None:
                     exec(said, names)
                 else:
                     self.assertEqual(answer_to(said, names), answered)
 
+    def test_each_step_is_answered_as_it_stands_there(self):
+        self.go_through(SESSIONS)
+
+    def test_each_step_of_promises(self):
+        self.go_through(SESSION_OF_PROMISES)
+
+    def test_each_step_of_kinds_of_terms(self):
+        self.go_through(SESSION_OF_KINDING)
+
     def test_the_steps_are_all_told(self):
-        steps = steps_of(SESSIONS)
-        self.assertEqual([len(steps), len([said for said, answered in steps if answered is not None])], [9, 4])
+        counts = []
+        for text in (SESSIONS, SESSION_OF_PROMISES, SESSION_OF_KINDING):
+            steps = steps_of(text)
+            counts.append((len(steps), len([said for said, answered in steps if answered is not None])))
+        self.assertEqual(counts, [(23, 15), (7, 4), (6, 2)])
 
 
 if __name__ == "__main__":
