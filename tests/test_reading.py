@@ -61,6 +61,25 @@ class TestRead(Case):
                 self.assertEqual(read_value(kind, text), value)
                 self.assertEqual(read_value(text=text, kind=kind), value)
 
+    def test_each_behind_another_one_and_ahead_of_one(self):
+        for text, kind in KINDS.items():
+            self.assertEqual(read_kind(f"(num, {text})"), ("pair", NUM, kind))
+            self.assertEqual(read_kind(f"({text}, num)"), ("pair", kind, NUM))
+            self.assertEqual(read_kind(f"unit -> num | ({text})"), ("fun", UNIT, ("either", NUM, kind)))
+            self.assertEqual(read_kind(f"({text}) -> list ({text})"), ("fun", kind, ("list", kind)))
+        for text, term in TERMS.items():
+            if term is not None:
+                self.assertEqual(read_term(f"x(({text}))"), ("call", X, term))
+                self.assertEqual(read_term(f"(-7, {text})"), ("pair", ("number", -7), term))
+                self.assertEqual(read_term(f"({text}, y)"), ("pair", term, Y))
+                self.assertEqual(read_term(f"x + ({text}) * y"), ("plus", X, ("times", term, Y)))
+                self.assertEqual(read_term(f"cons(x, fold(y, {text}, {text}))"), ("cons", X, ("fold", Y, term, term)))
+        for kind, text, value in VALUES:
+            self.assertEqual(read_value(("pair", NUM, kind), f"(7, {text})"), ("pair", 7, value))
+            self.assertEqual(read_value(("pair", kind, NUM), f"({text}, 7)"), ("pair", value, 7))
+            self.assertEqual(read_value(("list", kind), f"[{text}, {text}, {text}]"), (value,) * 3)
+            self.assertEqual(read_value(("either", NUM, ("list", kind)), f"right([{text}, {text}])"), ("right", (value,) * 2))
+
     def test_all_is_made_of_tuples_numbers_and_texts(self):
         made = [read_kind(text) for text in KINDS] + [read_value(kind, text) for kind, text, _ in VALUES]
         made += [read_term(text) for text, term in TERMS.items() if term is not None]
