@@ -55,9 +55,7 @@ def is_term(value):
 
 def is_written(value):
     """Whether it is a term as written, whatever it is."""
-    if wrong_place(value, DEEPEST_WRITTEN, DEEPEST_KIND_WRITTEN) is not None:
-        return False
-    return len(_parts_with_levels(value)) <= MOST_PARTS_WRITTEN
+    return wrong_place_as_written(value) is None
 
 
 def parts_of(term):
@@ -103,6 +101,21 @@ def check_term(term):
     place = wrong_place(term, DEEPEST, DEEPEST)
     if place is not None:
         raise InvalidTerm(place)
+
+
+def check_written(value):
+    """Refuses what is no term as written, at what is wrong first."""
+    place = wrong_place_as_written(value)
+    if place is not None:
+        raise InvalidTerm(place)
+
+
+def wrong_place_as_written(value):
+    """The path to what is wrong first in what should be a term as written; None if all is well."""
+    place = wrong_place(value, DEEPEST_WRITTEN, DEEPEST_KIND_WRITTEN)
+    if place is None and len(_parts_with_levels(value)) > MOST_PARTS_WRITTEN:
+        return ()
+    return place
 
 
 def wrong_place(value, deepest, deepest_kind):

@@ -183,3 +183,9 @@ def made_by(word, kind, names, number, levels):
             return ("is", ("<", "<=", "==")[three % 3], of(NUM, one), of(NUM, two))
         case "cons":
             return ("cons", of(kind[1], one), of(kind, two))
+
+
+def program_of(kind, number, levels):
+    """A program of a kind a -> b -> c -> the kind; so that each variable has a thing."""
+    names = {"x": A, "y": B, "z": C}
+    return ("fn", "x", A, ("fn", "y", B, ("fn", "z", C, term_of(kind, names, number, levels))))

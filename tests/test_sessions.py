@@ -61,16 +61,37 @@ SESSION_OF_PROMISES = r"""
 >>> equation_text(("fun", ("fun", a, a), a))
 raises InvalidKind(given=('fun', ('fun', ('var', 'a'), ('var', 'a')), ('var', 'a')))
 """
-# Of the document's session behind putters what it shows of kinds of terms; told is of a module of its own.
-SESSION_OF_KINDING = r"""
+SESSION_OF_PUTTERS = r"""
 >>> from bykindalone.kinding import filled, kind_of
+>>> from bykindalone.marks import alike_at, by_table, is_first, laid, marked, places, shape_of, table_of
+>>> from bykindalone.meaning import told
+>>> from bykindalone.putters import out_of_order, put_by, puts_in_order
+>>> from bykindalone.answers import parting_answers, tested_alike, tested_answer
 >>> num, unit, a = ("num",), ("unit",), ("var", "a")
 >>> rows, truth, x, r, l, p = ("list", a), ("either", unit, unit), ("name", "x"), ("name", "r"), ("name", "l"), ("name", "p")
 >>> twice = ("fn", "l", rows, ("fold", ("fn", "x", a, ("fn", "r", rows, ("cons", x, ("cons", x, r)))), ("nil", a), l))
->>> [kind_of((), twice), filled(rows, (("a", num),))]
-[('fun', ('list', ('var', 'a')), ('list', ('var', 'a'))), ('list', ('num',))]
+>>> [kind_of((), twice), filled(rows, (("a", num),)), told(twice, (("a", num),), ((5, 7),))]
+[('fun', ('list', ('var', 'a')), ('list', ('var', 'a'))), ('list', ('num',)), (5, 5, 7, 7)]
 >>> kind_of((("x", a),), ("plus", x, ("number", 1)))
 raises WrongTerm(place=(1,))
+>>> shape = shape_of(twice, (("a", num),), ((5, 7),))
+>>> [shape, marked(twice, shape), table_of(twice, shape), by_table(twice, shape, (0, 0, 1, 1), (("a", num),), (("a", (5, 7)),))]
+[(((), ()),), ((0, 1),), (0, 0, 1, 1), (5, 5, 7, 7)]
+>>> same = ("fn", "l", rows, l)
+>>> [alike_at(twice, same, shape), alike_at(twice, same, ((),)), places(("pair", a, rows), ("pair", (), ((), ()))), is_first(("fun", ("fun", a, truth), rows)), laid(same, shape, (("a", num),), (("a", (5, 5)),))]
+[False, True, (('a', 3),), False, ((5, 5),)]
+>>> yes, no, t = ("left", ()), ("right", ()), ("name", "t")
+>>> kept = ("fn", "t", ("fun", a, truth), ("fn", "l", rows, ("fold", ("fn", "x", a, ("fn", "r", rows, ("case", ("call", t, x), "u", ("cons", x, r), "v", r))), ("nil", a), l)))
+>>> all_kept = ("fn", "t", ("fun", a, truth), same)
+>>> [tested_answer(kept, (("test", 1), ((), (), ())), ((yes, no, yes),)), parting_answers(kept, all_kept, (("test", 1), ((), ()))), tested_alike(kept, all_kept, (("test", 1), ()))]
+[(0, 2), ((('left', ()), ('right', ())),), True]
+>>> state, s, q = ("either", unit, ("pair", a, rows)), ("name", "s"), ("name", "q")
+>>> put = ("let", "p", ("call", ("name", "put"), ("pair", x, ("first", q))), ("right", unit, ("pair", ("first", p), ("cons", ("second", p), ("second", q)))))
+>>> step = ("fn", "x", a, ("fn", "s", state, ("case", s, "u", ("right", unit, ("pair", x, ("nil", a))), "q", put)))
+>>> out = ("case", ("fold", step, ("left", ("unit",), ("pair", a, rows)), l), "u", ("nil", a), "q", ("cons", ("first", q), ("second", q)))
+>>> least_first = ("fn", "put", ("fun", ("pair", a, a), ("pair", a, a)), ("fn", "l", rows, out))
+>>> [put_by(least_first, (3, 1, 2)), puts_in_order(least_first, 2), puts_in_order(least_first, 3), out_of_order(least_first, 3)]
+[(1, 3, 2), True, False, (1, 0, 0)]
 """
 
 
@@ -110,15 +131,15 @@ class TestSessions(unittest.TestCase):
     def test_each_step_of_promises(self):
         self.go_through(SESSION_OF_PROMISES)
 
-    def test_each_step_of_kinds_of_terms(self):
-        self.go_through(SESSION_OF_KINDING)
+    def test_each_step_of_putters(self):
+        self.go_through(SESSION_OF_PUTTERS)
 
     def test_the_steps_are_all_told(self):
         counts = []
-        for text in (SESSIONS, SESSION_OF_PROMISES, SESSION_OF_KINDING):
+        for text in (SESSIONS, SESSION_OF_PROMISES, SESSION_OF_PUTTERS):
             steps = steps_of(text)
             counts.append((len(steps), len([said for said, answered in steps if answered is not None])))
-        self.assertEqual(counts, [(23, 15), (7, 4), (6, 2)])
+        self.assertEqual(counts, [(23, 15), (7, 4), (24, 6)])
 
 
 if __name__ == "__main__":
