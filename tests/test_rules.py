@@ -36,6 +36,10 @@ INTERFACE = {
     "text": "read_kind read_term read_value show_kind show_term show_value",
     "kinding": "kind_of filled",
     "promises": "promise_of promise_text equation_text",
+    "meaning": "told",
+    "marks": "is_first is_tested places shape_of marked laid table_of by_table alike_at",
+    "answers": "tested_answer tested_alike parting_answers",
+    "putters": "put_by puts_in_order out_of_order",
 }
 
 
