@@ -38,7 +38,7 @@ NEITHER = (
     "(a -> a) -> a", "(num -> unit | unit) -> num", "(a -> num) -> a", "(a -> unit) -> a", "(a -> a -> num) -> a",
     "(a -> b -> c -> unit | unit) -> a", "(list a -> unit | unit) -> a", "(a -> num -> unit | unit) -> a", "(num -> a -> unit | unit) -> a",
     "((a, a) -> unit | unit) -> a", "(a -> unit | num) -> a", "(a -> num | unit) -> a", "(a -> (unit | unit) | unit) -> a",
-    "a -> list (a -> a)", "(a -> a, num) -> a", "a -> (num, a -> a)", "list (a -> unit | unit) -> a", "(a -> unit | unit, a) -> a",
+    "(a, b -> unit | unit) -> a", "a | (b -> unit | unit) -> a", "a -> list (a -> a)", "(a -> a, num) -> a", "a -> (num, a -> a)", "list (a -> unit | unit) -> a", "(a -> unit | unit, a) -> a",
     "((a -> unit | unit) -> unit | unit) -> a", "(a -> list (unit | unit)) -> a", "(a -> unit | unit) -> list (a -> unit | unit)",
 )
 
