@@ -12,7 +12,7 @@ MOST_ANSWERS = 12
 
 def tested_answer(program, shape, answers):
     """What the program tells of the marked arguments of the shape, the tests answering so."""
-    kind = tested_kind_of(program)
+    kind = _tested_kind_of(program)
     check_shape(kind, shape)
     _check_answers(_sizes_of_tests(kind, shape), answers)
     return called_with(meaning_of(program), _arguments(kind, marked_by(kind, shape), answers))
@@ -25,15 +25,9 @@ def tested_alike(one, two, shape):
 
 def parting_answers(one, two, shape):
     """The first answers of the tests for which both programs tell unlike of the marked arguments; None."""
-    kind = tested_kind_of(one)
-    other = tested_kind_of(two)
-    check_shape(kind, shape)
-    if kind != other:
-        raise UnlikeKinds()
+    kind = check_tested(one, two, shape)
     sizes = _sizes_of_tests(kind, shape)
-    many = sum([_answers_together(size) for size in sizes])
-    if many > MOST_ANSWERS:
-        raise TooMany(many)
+    many = _answers_together(sizes)
     first, second = meaning_of(one), meaning_of(two)
     at_marks = marked_by(kind, shape)
     for number in range(1 << many):
@@ -44,7 +38,20 @@ def parting_answers(one, two, shape):
     return None
 
 
-def tested_kind_of(program):
+def check_tested(one, two, shape):
+    """The kind of both programs; refuses what are no tested programs, no shape, unlike kinds, and too many answers."""
+    kind = _tested_kind_of(one)
+    other = _tested_kind_of(two)
+    check_shape(kind, shape)
+    if kind != other:
+        raise UnlikeKinds()
+    many = _answers_together(_sizes_of_tests(kind, shape))
+    if many > MOST_ANSWERS:
+        raise TooMany(many)
+    return kind
+
+
+def _tested_kind_of(program):
     """The kind of the program, which is a tested one."""
     kind = kind_of_program(program)
     if not is_tested_kind(kind):
@@ -59,9 +66,9 @@ def _sizes_of_tests(kind, shape):
     return [tuple([counts[var] for var in tested_variables(part)]) for part in asked if not is_data_kind(part)]
 
 
-def _answers_together(size):
-    """How many answers a test of the size gives."""
-    return size[0] if len(size) == 1 else size[0] * size[1]
+def _answers_together(sizes):
+    """How many answers tests of these sizes give together."""
+    return sum([size[0] if len(size) == 1 else size[0] * size[1] for size in sizes])
 
 
 def _check_answers(sizes, answers):

@@ -30,7 +30,12 @@ def depth_of_kind(kind):
 
 def variables_of(kind):
     """The ascending tuple of the variables in the kind, each once."""
-    return tuple(sorted({part[1] for part, level in _told_parts(kind) if part[0] == "var"}))
+    return tuple(sorted({part[1] for part in parts_of_kind(kind) if part[0] == "var"}))
+
+
+def parts_of_kind(kind):
+    """The list of all kinds within the kind, itself among them."""
+    return [part for part, level in _told_parts(kind)]
 
 
 def is_text_of(value, texts):

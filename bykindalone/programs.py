@@ -1,7 +1,7 @@
 """Programs, their arguments, and things of closed kinds (points B3 and C1)."""
 
-from bykindalone.errors import InvalidArguments, NotData, WrongTerm
-from bykindalone.kinding import filled, kind_of
+from bykindalone.errors import InvalidArguments, KindError, NotData, WrongTerm
+from bykindalone.kinding import check_filling, filled, kind_of
 from bykindalone.kinds import is_closed_kind, is_data_kind
 from bykindalone.terms import check_written, is_written
 from bykindalone.values import is_value
@@ -55,3 +55,16 @@ def check_told(kind, filling, arguments):
     if not is_data_kind(left) or not is_closed_kind(left):
         raise NotData(left)
     return left
+
+
+def is_run(kind, value):
+    """Whether it is a run for programs of the kind, whatever it is."""
+    if not isinstance(value, tuple) or len(value) != 3:
+        return False
+    filling, arguments, answer = value
+    try:
+        check_filling(filling)
+        left = check_told(kind, filling, arguments)
+    except KindError:
+        return False
+    return is_value(left, answer)

@@ -12,7 +12,7 @@ MOST_IN_ORDER = 10
 
 def put_by(program, numbers):
     """What the program tells of the numbers with the putter."""
-    _check_putting(program)
+    check_putting(program)
     if not isinstance(numbers, tuple) or len(numbers) > MOST_NUMBERS:
         raise InvalidNumbers(None)
     for index, number in enumerate(numbers):
@@ -28,9 +28,8 @@ def puts_in_order(program, length):
 
 def out_of_order(program, length):
     """The first list of as many noughts and ones that the program does not put in order; None."""
-    _check_putting(program)
-    if not is_number(length) or not 0 <= length <= MOST_IN_ORDER:
-        raise InvalidNumber(length)
+    check_putting(program)
+    check_length(length)
     value = meaning_of(program)
     for number in range(1 << length):
         numbers = tuple([number >> at & 1 for at in range(length - 1, -1, -1)])
@@ -39,9 +38,26 @@ def out_of_order(program, length):
     return None
 
 
-def _check_putting(program):
+def is_length(value):
+    """Whether it is a length that is asked for, whatever it is."""
+    return is_number(value) and 0 <= value <= MOST_IN_ORDER
+
+
+def is_putting_kind(kind):
+    """Whether programs of the kind are given a putter."""
+    return any([kind == _putting_kind(("var", var)) for var in VARIABLES])
+
+
+def check_length(length):
+    """Refuses what is no length that is asked for."""
+    if not is_length(length):
+        raise InvalidNumber(length)
+
+
+def check_putting(program):
+    """Refuses what is no program that is given a putter."""
     kind = kind_of_program(program)
-    if not any([kind == _putting_kind(("var", var)) for var in VARIABLES]):
+    if not is_putting_kind(kind):
         raise NotPutting(kind)
 
 

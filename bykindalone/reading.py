@@ -59,27 +59,45 @@ RULES = {
 
 def read(form, text):
     """What the text tells: form is "KIND", "TERM", or ("value", KIND) for a value of a closed data kind."""
-    tokens = tokens_of(text)
-    made = []
-    # What is still asked for waits in a list, the next one last, so deep texts ask for no recursion.
-    waiting = ["END", form]
-    at = 0
-    while waiting:
-        asked = waiting.pop()
-        sort, worth, index = tokens[at]
-        symbols = _symbols_for(asked, sort)
-        if symbols is not None:
-            waiting.extend(symbols[::-1])
-        elif isinstance(asked, tuple) and asked[0] == "make":
-            _make(made, asked[1], asked[2])
-        elif _takes(asked, sort, worth):
-            if sort in ("NAME", "NUMBER"):
-                made.append(worth)
-            at += 1
-        else:
-            line, column = place_of(text, index)
-            raise InvalidText(line, column)
-    return made[0]
+    reader = Reader(text)
+    told = reader.take(form)
+    reader.take("END")
+    return told
+
+
+class Reader:
+    """Reads a text from the left, form by form."""
+
+    def __init__(self, text):
+        self.text = text
+        self.tokens = tokens_of(text)
+        self.at = 0
+
+    def next_sort(self):
+        """The sort of the token that is read next."""
+        return self.tokens[self.at][0]
+
+    def take(self, form):
+        """What the form tells that is due next, which may be a token; None of a word, of a sign, and of "END"."""
+        made = []
+        # What is still asked for waits in a list, the next one last, so deep texts ask for no recursion.
+        waiting = [form]
+        while waiting:
+            asked = waiting.pop()
+            sort, worth, index = self.tokens[self.at]
+            symbols = _symbols_for(asked, sort)
+            if symbols is not None:
+                waiting.extend(symbols[::-1])
+            elif isinstance(asked, tuple) and asked[0] == "make":
+                _make(made, asked[1], asked[2])
+            elif _takes(asked, sort, worth):
+                if sort in ("NAME", "NUMBER"):
+                    made.append(worth)
+                self.at += 1
+            else:
+                line, column = place_of(self.text, index)
+                raise InvalidText(line, column)
+        return made[0] if made else None
 
 
 def _symbols_for(asked, sort):
