@@ -3,14 +3,13 @@
 from bykindalone.answers import check_tested, tested_alike, tested_answer
 from bykindalone.errors import KindError
 from bykindalone.kinding import filled
-from bykindalone.kinds import is_data_kind, is_kind, variables_of
+from bykindalone.kinds import is_kind, variables_of
 from bykindalone.marks import alike_at, by_table, check_table, laid, table_of
 from bykindalone.meaning import meant_by, told, told_of_things
 from bykindalone.programs import asked_and_told, check_told, is_run, kind_if_any, kind_of_program
 from bykindalone.promises import promise_of
-from bykindalone.putters import check_length, check_putting, put_by, puts_in_order
-from bykindalone.relations import are_related, both_told, check_related_arguments, check_tells, check_things, fillings
-from bykindalone.relations import is_turn, turned
+from bykindalone.putters import check_length, put_by, puts_in_order
+from bykindalone.relations import are_related, both_told, check_related_arguments, check_things, fillings, turned
 from bykindalone.terms import is_written
 from bykindalone.values import is_number, is_value
 from bykindalone.ways import first_way, leads_apart, pairs_by_variable
@@ -58,7 +57,6 @@ def _is_told_by_none(claim, paper):
     _, kind, runs = claim
     if not _are_runs(kind, runs):
         return False
-    check_tells(paper, kind)
     first, last = runs[0], runs[-1]
     ones, twos = fillings(paper)
     for var in variables_of(kind):
@@ -116,7 +114,6 @@ def _is_in_order(claim, paper):
 
 def _is_out_of_order(claim, paper):
     _, program, length = claim
-    check_putting(program)
     check_length(length)
     answer = put_by(program, paper)
     return len(paper) == length and answer != tuple(sorted(paper))
@@ -143,15 +140,11 @@ def _is_turned(claim, paper):
     _, program, turn, ones, answer = claim
     kind = kind_of_program(program)
     asked, left = asked_and_told(kind)
-    if len(asked) == 0 or not all([is_data_kind(part) for part in asked + (left,)]):
-        return False
-    check_tells(turn, kind)
-    if not is_turn(turn):
-        return False
     before, behind = fillings(turn)
     check_told(kind, before, ones)
+    # Kinds that are none of data, and what is no turn that tells them, are refused by turned.
     arguments = tuple([turned(part, turn, argument) for part, argument in zip(asked, ones)])
-    if not _is_nothing(paper) or not is_value(filled(left, behind), answer):
+    if not _is_nothing(paper) or len(asked) == 0 or not is_value(filled(left, behind), answer):
         return False
     return told_of_things(kind, program, arguments) == answer
 
@@ -214,8 +207,8 @@ def _is_pair(paper):
 
 
 def _are_runs(kind, runs):
-    """Whether they are a kind and one or two runs for it, whatever they are."""
-    if not is_kind(kind) or not isinstance(runs, tuple) or len(runs) not in (1, 2):
+    """Whether they are one or two runs for the kind, whatever both are."""
+    if not isinstance(runs, tuple) or len(runs) not in (1, 2):
         return False
     return all([is_run(kind, run) for run in runs])
 
@@ -227,8 +220,8 @@ def _tells(program, kind, runs):
 
 def _put_for(var, filling):
     """What the filling puts for the variable; None if it is not filled."""
-    for told_var, kind in filling:
-        if told_var == var:
+    for filled_var, kind in filling:
+        if filled_var == var:
             return kind
     return None
 

@@ -2,7 +2,7 @@
 
 from bykindalone.errors import InvalidKind, InvalidRelation, InvalidThing, InvalidValue, NotRelated, TooMany, Unfilled
 from bykindalone.kinding import filled
-from bykindalone.kinds import VARIABLES, is_closed_kind, is_data_kind, is_kind, is_text_of, variables_of
+from bykindalone.kinds import VARIABLES, is_closed_kind, is_data_kind, is_text_of, variables_of
 from bykindalone.meaning import meant_by, told_of_things
 from bykindalone.programs import asked_and_told, check_told, is_thing, kind_of_program
 from bykindalone.shapes import things_in, with_things
@@ -30,14 +30,12 @@ def fillings(relation):
 
 def is_tried(kind):
     """Whether it can be looked through whether two meanings are related at the kind."""
-    if not is_kind(kind):
-        raise InvalidKind(kind)
     return is_tried_kind(kind)
 
 
 def related_pairs(kind, relation):
     """The ascending tuple of all pairs that are related at the small kind."""
-    if not is_kind(kind) or not is_small_kind(kind):
+    if not is_small_kind(kind):
         raise InvalidKind(kind)
     check_tells(relation, kind)
     told = pairs_by_variable(relation)
@@ -127,7 +125,7 @@ def check_tells(relation, kind):
 
 def check_things(kind, relation, one, two):
     """Refuses what are no kind to look through, no relation that tells it, no things of it, and too many rows."""
-    if not is_kind(kind) or not is_tried_kind(kind):
+    if not is_tried_kind(kind):
         raise InvalidKind(kind)
     check_tells(relation, kind)
     for filling, thing in zip(both_fillings(relation), (one, two)):

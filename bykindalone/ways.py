@@ -11,12 +11,12 @@ SMALL_WORDS = ("var", "unit", "pair", "either")
 
 
 def is_small_kind(kind):
-    """Whether the kind is made of variables, unit, pair and either alone."""
+    """Whether the kind is made of variables, unit, pair and either alone; refuses what is no kind."""
     return all([part[0] in SMALL_WORDS for part in parts_of_kind(kind)])
 
 
 def is_tried_kind(kind):
-    """Whether the arguments' kind of each function's kind in the kind is small."""
+    """Whether the arguments' kind of each function's kind in the kind is small; refuses what is no kind."""
     return all([is_small_kind(part[1]) for part in parts_of_kind(kind) if part[0] == "fun"])
 
 
