@@ -234,7 +234,9 @@ class TestNone(unittest.TestCase):
                 certify_none(kind, runs)
             self.assertEqual(caught.exception.given, 441)
             # Where the shapes are not one it is None.
-            self.assertIsNone(certify_none(kind, (runs[0], (AS_NUM, (test, tuple(range(20))), 2))))
+            for other in (20, 22, 30):
+                self.assertIsNone(certify_none(kind, (runs[0], (AS_NUM, (test, tuple(range(other))), 2))))
+                self.assertIsNone(certify_none(kind, ((AS_NUM, (test, tuple(range(other))), 2), runs[0])))
         two = K("(b -> unit | unit) -> (a -> a -> unit | unit) -> (a -> unit | unit) -> list a -> list b -> num")
         filling = (("a", NUM), ("b", NUM))
         for first, second, given_here in ((30, 3, 900), (401, 500, 500), (3, 500, 500), (420, 2, 420 * 420)):

@@ -337,6 +337,10 @@ class TestRelated(unittest.TestCase):
     def test_rows(self):
         one, two = T("fn x: num. 1"), T("fn x: num. 1")
         self.assertTrue(are_related(K("a -> num"), many(400), one, two))
+        same = T("fn x: num. x")
+        self.assertFalse(are_related(K("a -> a"), many(400, 400), same, T("fn x: num. x + 1")))
+        self.assertIsNone(way_apart(K("a -> a"), (("a", NUM, NUM, tuple((at, at) for at in range(400))),), same, same))
+        self.assertTrue(are_related(K("a -> (unit, num | list a)"), (("a", NUM, NUM, tuple((at, at) for at in range(400))),), *[T("fn x: num. ((), right(num, cons(x, nil(num))))")] * 2))
         pairs = T("fn x: (num, num). 1")
         self.assertTrue(are_related(K("(a, a) -> num"), many(20), pairs, pairs))
         twice = T("fn x: num. fn y: num. 1")
@@ -360,6 +364,9 @@ class TestRelated(unittest.TestCase):
         relation = many(30) + (("b", NUM, NUM, ()),)
         one, two = T("fn p: (num, num). fn y: num. first(p)"), T("fn p: (num, num). fn y: num. second(p)")
         self.assertIsNone(way_apart(K("(a, a) -> b -> num"), relation, one, two))
+        wide = "(((num, num), (num, num)), ((num, num), (num, num)))"
+        first, second = T(f"fn p: {wide}. fn y: num. 1"), T(f"fn p: {wide}. fn y: num. 2")
+        self.assertIsNone(way_apart(K(f"{wide.replace('num', 'a')} -> b -> num"), relation, first, second))
         self.assertIsNone(way_apart(K("b -> a -> a -> num"), relation, T("fn x: num. fn y: num. fn z: num. 1"), T("fn x: num. fn y: num. fn z: num. 2")))
         with self.assertRaises(TooMany) as caught:
             way_apart(K("a -> (b -> num, a -> num)"), relation, T("fn x: num. (fn y: num. 1, fn z: num. 1)"), T("fn x: num. (fn y: num. 2, fn z: num. 1)"))

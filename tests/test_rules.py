@@ -40,6 +40,14 @@ INTERFACE = {
     "marks": "is_first is_tested places shape_of marked laid table_of by_table alike_at",
     "answers": "tested_answer tested_alike parting_answers",
     "putters": "put_by puts_in_order out_of_order",
+    "relations": (
+        "is_relation fillings is_tried related_pairs are_related way_apart flipped behind is_turn turned both_told"
+    ),
+    "checker": "accepts",
+    "certificates": (
+        "certify_kind certify_told certify_table certify_alike certify_tests certify_order certify_related certify_none"
+    ),
+    "desk": "Desk",
 }
 
 
@@ -87,6 +95,26 @@ class TestFiles(unittest.TestCase):
 
 
 class TestNames(unittest.TestCase):
+    def test_the_methods_of_the_desk_stand_in_its_class(self):
+        tree = ast.parse((PACKAGE / "desk.py").read_text("utf-8"))
+        found = [node for node in tree.body if isinstance(node, ast.ClassDef) and node.name == "Desk"]
+        self.assertEqual(len(found), 1)
+        self.assertLessEqual({"say", "programs"}, {node.name for node in found[0].body if isinstance(node, ast.FunctionDef)})
+
+    def test_no_local_name_is_that_of_an_import_or_a_class(self):
+        for name, tree in trees():
+            taken = {alias.name for node in ast.walk(tree) if isinstance(node, ast.ImportFrom) for alias in node.names}
+            taken |= {node.name for node in ast.walk(tree) if isinstance(node, ast.ClassDef)}
+            bound = {node.arg for node in ast.walk(tree) if isinstance(node, ast.arg)}
+            bound |= {node.id for node in ast.walk(tree) if isinstance(node, ast.Name) and isinstance(node.ctx, ast.Store)}
+            self.assertEqual(bound & taken, set(), name)
+
+    def test_each_import_is_used(self):
+        for name, tree in trees():
+            imported = {alias.name for node in ast.walk(tree) if isinstance(node, ast.ImportFrom) for alias in node.names}
+            used = {node.id for node in ast.walk(tree) if isinstance(node, ast.Name)}
+            self.assertEqual(imported - used, set(), name)
+
     def test_the_interface_is_defined_in_its_files(self):
         for module, names in INTERFACE.items():
             tree = ast.parse((PACKAGE / (module + ".py")).read_text("utf-8"))
