@@ -79,7 +79,8 @@ def all_ways(kind, pairs, one, two):
                 return [()]
             return [(at,) + way for at, (x, y) in enumerate(zip(one, two)) for way in all_ways(part, pairs, x, y)]
         case ("fun", asked, told):
-            return [(("with", x, y),) + way for x, y in asked_pairs(asked, pairs) for way in all_ways(told, pairs, one(x), two(y))]
+            return [(("with", x, y),) + way for x, y in asked_pairs(asked, pairs) for way in all_ways(told, pairs, one(x),
+                two(y))]
 
 
 def how_many(kind, pairs):

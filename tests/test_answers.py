@@ -60,18 +60,24 @@ class TestAnswers(unittest.TestCase):
     def test_each_row(self):
         one_shape, two_shape = (("test", 1), ((), (), ())), (("test", 2), (), ((), (), ()))
         rows = (
-            (KEPT, one_shape, ((YES, NO, YES),), (0, 2)), (KEPT, one_shape, ((NO, NO, NO),), ()), (DROPPED, one_shape, ((YES, NO, YES),), (1,)),
+            (KEPT, one_shape, ((YES, NO, YES),), (0, 2)), (KEPT, one_shape, ((NO, NO, NO),), ()),
+            (DROPPED, one_shape, ((YES, NO, YES),), (1,)),
             (ALL, one_shape, ((YES, NO, NO),), (0, 1, 2)), (KEPT, (("test", 1), ()), ((),), ()),
-            (BESIDE, two_shape, (((YES, NO, YES),),), (0, 2)), (BESIDE, two_shape, (((NO, YES, NO),),), (1,)), (BESIDE, (("test", 2), (), ()), (((),),), ()),
+            (BESIDE, two_shape, (((YES, NO, YES),),), (0, 2)), (BESIDE, two_shape, (((NO, YES, NO),),), (1,)),
+            (BESIDE, (("test", 2), (), ()), (((),),), ()),
             (T("fn x: a. fn t: a -> unit | unit. fn y: a. (t(x), t(y))"), ((), ("test", 1), ()), ((YES, NO),), ("pair", YES, NO)),
             (T("fn x: a. fn t: a -> a -> unit | unit. fn y: a. ((t(x)(x), t(x)(y)), (t(y)(x), t(y)(y)))"), ((), ("test", 2), ()),
              (((YES, NO), (NO, NO)),), ("pair", ("pair", YES, NO), ("pair", NO, NO))),
             (T("fn x: a. fn t: a -> a -> unit | unit. fn y: a. ((t(x)(x), t(x)(y)), (t(y)(x), t(y)(y)))"), ((), ("test", 2), ()),
              (((NO, NO), (YES, NO)),), ("pair", ("pair", NO, NO), ("pair", YES, NO))),
-            (T("fn s: a -> unit | unit. fn t: a -> unit | unit. fn x: a. (s(x), t(x))"), (("test", 1), ("test", 1), ()), ((YES,), (NO,)), ("pair", YES, NO)),
-            (T("fn s: b -> unit | unit. fn x: a. fn t: a -> unit | unit. fn y: b. (s(y), t(x))"), (("test", 1), (), ("test", 1), ()), ((NO,), (YES,)), ("pair", NO, YES)),
-            (T("fn s: b -> unit | unit. fn x: a. x"), (("test", 1), ()), ((),), 0), (T("fn s: a -> b -> unit | unit. fn x: a. fn y: a. y"), (("test", 2), (), ()), (((), ()),), 1),
-            (T("fn s: b -> a -> unit | unit. fn x: a. fn y: a. y"), (("test", 2), (), ()), ((),), 1), (T("fn s: c -> unit | unit. 4"), (("test", 1),), ((),), 4),
+            (T("fn s: a -> unit | unit. fn t: a -> unit | unit. fn x: a. (s(x), t(x))"), (("test", 1), ("test", 1), ()),
+                ((YES,), (NO,)), ("pair", YES, NO)),
+            (T("fn s: b -> unit | unit. fn x: a. fn t: a -> unit | unit. fn y: b. (s(y), t(x))"),
+                (("test", 1), (), ("test", 1), ()), ((NO,), (YES,)), ("pair", NO, YES)),
+            (T("fn s: b -> unit | unit. fn x: a. x"), (("test", 1), ()), ((),), 0),
+            (T("fn s: a -> b -> unit | unit. fn x: a. fn y: a. y"), (("test", 2), (), ()), (((), ()),), 1),
+            (T("fn s: b -> a -> unit | unit. fn x: a. fn y: a. y"), (("test", 2), (), ()), ((),), 1),
+            (T("fn s: c -> unit | unit. 4"), (("test", 1),), ((),), 4),
             (T("fn l: list a. fn n: num. n"), (((), ()), 5), (), 5), (T("fn l: list a. l"), (((), ()),), (), (0, 1)),
         )
         for program, shape, answers, answer in rows:
@@ -81,16 +87,23 @@ class TestAnswers(unittest.TestCase):
     def test_programs_that_are_parted(self):
         shape = (("test", 1), ((), (), ()))
         rows = (
-            (KEPT, ALL, shape, ((YES, YES, NO),)), (DROPPED, ALL, shape, ((YES, YES, YES),)), (KEPT, DROPPED, shape, ((YES, YES, YES),)), (KEPT, KEPT, shape, None),
-            (KEPT, ALL, (("test", 1), ()), None), (BESIDE, NONE, (("test", 2), (), ((), ())), (((YES, YES),),)), (BESIDE, NONE, (("test", 2), (), ()), None),
-            (T("fn t: a -> unit | unit. fn x: a. fn y: a. case t(x) {u. x; v. y}"), T("fn t: a -> unit | unit. fn x: a. fn y: a. x"), (("test", 1), (), ()), ((NO, YES),)),
-            (T("fn t: a -> unit | unit. fn x: a. fn y: a. case t(x) {u. x; v. case t(y) {u. x; v. y}}"), T("fn t: a -> unit | unit. fn x: a. fn y: a. x"),
+            (KEPT, ALL, shape, ((YES, YES, NO),)), (DROPPED, ALL, shape, ((YES, YES, YES),)),
+            (KEPT, DROPPED, shape, ((YES, YES, YES),)), (KEPT, KEPT, shape, None),
+            (KEPT, ALL, (("test", 1), ()), None), (BESIDE, NONE, (("test", 2), (), ((), ())), (((YES, YES),),)),
+            (BESIDE, NONE, (("test", 2), (), ()), None),
+            (T("fn t: a -> unit | unit. fn x: a. fn y: a. case t(x) {u. x; v. y}"),
+                T("fn t: a -> unit | unit. fn x: a. fn y: a. x"), (("test", 1), (), ()), ((NO, YES),)),
+            (T("fn t: a -> unit | unit. fn x: a. fn y: a. case t(x) {u. x; v. case t(y) {u. x; v. y}}"),
+                T("fn t: a -> unit | unit. fn x: a. fn y: a. x"),
              (("test", 1), (), ()), ((NO, NO),)),
-            (T("fn t: a -> a -> unit | unit. fn x: a. fn y: a. t(x)(y)"), T("fn t: a -> a -> unit | unit. fn x: a. fn y: a. t(y)(x)"),
+            (T("fn t: a -> a -> unit | unit. fn x: a. fn y: a. t(x)(y)"),
+                T("fn t: a -> a -> unit | unit. fn x: a. fn y: a. t(y)(x)"),
              (("test", 2), (), ()), (((YES, YES), (NO, YES)),)),
-            (T("fn s: a -> unit | unit. fn t: b -> unit | unit. fn x: a. fn y: b. s(x)"), T("fn s: a -> unit | unit. fn t: b -> unit | unit. fn x: a. fn y: b. t(y)"),
+            (T("fn s: a -> unit | unit. fn t: b -> unit | unit. fn x: a. fn y: b. s(x)"),
+                T("fn s: a -> unit | unit. fn t: b -> unit | unit. fn x: a. fn y: b. t(y)"),
              (("test", 1), ("test", 1), (), ()), ((YES,), (NO,))),
-            (T("fn x: a. fn y: a. x"), T("fn x: a. fn y: a. y"), ((), ()), ()), (T("fn x: a. fn y: a. x"), T("fn y: a. fn x: a. y"), ((), ()), None),
+            (T("fn x: a. fn y: a. x"), T("fn x: a. fn y: a. y"), ((), ()), ()),
+            (T("fn x: a. fn y: a. x"), T("fn y: a. fn x: a. y"), ((), ()), None),
         )
         for one, two, shape, answers in rows:
             self.assertEqual(parting_answers(one, two, shape), answers)
@@ -141,8 +154,10 @@ class TestAnswers(unittest.TestCase):
 
 class TestCounted(unittest.TestCase):
     KINDS = (
-        f"(a -> {TRUTHS}) -> list a -> a -> list a", f"(a -> a -> {TRUTHS}) -> list a -> a -> list (a, a)", f"(a -> b -> {TRUTHS}) -> a | b -> list b -> a -> b -> a | b",
-        f"(a -> {TRUTHS}) -> (b -> {TRUTHS}) -> a -> list b -> b -> num", f"a -> (a -> {TRUTHS}) -> a -> (a -> a -> {TRUTHS}) -> (a, {TRUTHS})",
+        f"(a -> {TRUTHS}) -> list a -> a -> list a", f"(a -> a -> {TRUTHS}) -> list a -> a -> list (a, a)",
+        f"(a -> b -> {TRUTHS}) -> a | b -> list b -> a -> b -> a | b",
+        f"(a -> {TRUTHS}) -> (b -> {TRUTHS}) -> a -> list b -> b -> num",
+        f"a -> (a -> {TRUTHS}) -> a -> (a -> a -> {TRUTHS}) -> (a, {TRUTHS})",
     )
 
     def programs(self, kind):
@@ -219,9 +234,12 @@ class TestErrors(unittest.TestCase):
 
     def test_programs(self):
         rows = (
-            (("fn",), InvalidTerm, ()), (None, InvalidTerm, ()), (("name", "x"), WrongTerm, ()), (T("fn x: a. x + 1"), WrongTerm, (3, 1)), (T("3"), NotTested, NUM),
-            (T("fn f: a -> num. fn x: a. x"), NotTested, K("(a -> num) -> a -> a")), (T("fn f: num -> unit | unit. 3"), NotTested, K("(num -> unit | unit) -> num")),
-            (T("fn t: a. fn u: a. fn v: a. fn w: a. fn x: a. fn y: a. fn z: a. x"), NotTested, K("a -> a -> a -> a -> a -> a -> a -> a")),
+            (("fn",), InvalidTerm, ()), (None, InvalidTerm, ()), (("name", "x"), WrongTerm, ()),
+            (T("fn x: a. x + 1"), WrongTerm, (3, 1)), (T("3"), NotTested, NUM),
+            (T("fn f: a -> num. fn x: a. x"), NotTested, K("(a -> num) -> a -> a")),
+            (T("fn f: num -> unit | unit. 3"), NotTested, K("(num -> unit | unit) -> num")),
+            (T("fn t: a. fn u: a. fn v: a. fn w: a. fn x: a. fn y: a. fn z: a. x"), NotTested,
+                K("a -> a -> a -> a -> a -> a -> a -> a")),
         )
         for program, error, kept in rows:
             self.raises(error, [kept], tested_answer, program=program, shape=None, answers=None)
@@ -231,9 +249,12 @@ class TestErrors(unittest.TestCase):
 
     def test_shapes(self):
         rows = (
-            (None, None), ([("test", 1), ()], None), ((("test", 1),), None), ((("test", 1), (), ()), None), ((), None), ((("test", 2), ()), 0), ((("test", 0), ()), 0),
-            ((("test", True), ()), 0), ((("test", "1"), ()), 0), ((("test",), ()), 0), ((("test", 1, 1), ()), 0), ((["test", 1], ()), 0), ((("tests", 1), ()), 0),
-            (((), ()), 0), ((None, None), 0), ((("test", 1), (0,)), 1), ((("test", 1), [()]), 1), ((("test", 1), ("test", 1)), 1), (((1, "test"), ()), 0),
+            (None, None), ([("test", 1), ()], None), ((("test", 1),), None), ((("test", 1), (), ()), None), ((), None),
+            ((("test", 2), ()), 0), ((("test", 0), ()), 0),
+            ((("test", True), ()), 0), ((("test", "1"), ()), 0), ((("test",), ()), 0), ((("test", 1, 1), ()), 0),
+            ((["test", 1], ()), 0), ((("tests", 1), ()), 0),
+            (((), ()), 0), ((None, None), 0), ((("test", 1), (0,)), 1), ((("test", 1), [()]), 1), ((("test", 1), ("test", 1)), 1),
+            (((1, "test"), ()), 0),
         )
         for shape, index in rows:
             self.raises(InvalidShape, [index], tested_answer, program=KEPT, shape=shape, answers=None)
@@ -246,16 +267,20 @@ class TestErrors(unittest.TestCase):
             self.raises(InvalidShape, [0], tested_answer, program=KEPT, shape=((thing, 1), ()), answers=None)
             if thing != 1 or thing is True:
                 self.raises(InvalidShape, [0], tested_answer, program=KEPT, shape=(("test", thing), ()), answers=None)
-            self.raises(InvalidShape, [1], tested_answer, program=T("fn x: a. fn t: a -> unit | unit. x"), shape=((), thing), answers=None)
+            self.raises(InvalidShape, [1], tested_answer, program=T("fn x: a. fn t: a -> unit | unit. x"), shape=((), thing),
+                answers=None)
 
     def test_wrong_answers(self):
         program = T("fn s: a -> unit | unit. fn t: a -> b -> unit | unit. fn x: a. fn y: b. fn z: a. x")
         shape, one, two = (("test", 1), ("test", 2), (), (), ()), (YES, NO), ((YES,), (NO,))
         self.assertEqual(tested_answer(program, shape, (one, two)), 0)
         rows = (
-            (None, None), ([one, two], None), ((), None), ((one,), None), ((one, two, one), None), ("", None), (((YES,), two), 0), (((YES, NO, NO), two), 0),
-            (([YES, NO], two), 0), (((YES, ("left", 0)), two), 0), (((True, False), two), 0), (((YES, None), None), 0), ((two, one), 0), ((one, one), 1),
-            ((one, ((YES,),)), 1), ((one, ((YES,), (NO,), (NO,))), 1), ((one, ((YES,), (NO, NO))), 1), ((one, ((YES,), ())), 1), ((one, ((YES,), [NO])), 1),
+            (None, None), ([one, two], None), ((), None), ((one,), None), ((one, two, one), None), ("", None), (((YES,), two), 0),
+            (((YES, NO, NO), two), 0),
+            (([YES, NO], two), 0), (((YES, ("left", 0)), two), 0), (((True, False), two), 0), (((YES, None), None), 0),
+            ((two, one), 0), ((one, one), 1),
+            ((one, ((YES,),)), 1), ((one, ((YES,), (NO,), (NO,))), 1), ((one, ((YES,), (NO, NO))), 1), ((one, ((YES,), ())), 1),
+            ((one, ((YES,), [NO])), 1),
             ((one, ((YES,), ("right",))), 1), ((one, [(YES,), (NO,)]), 1), ((one, ((YES, YES), (NO, NO))), 1), ((one, None), 1),
         )
         for answers, index in rows:
@@ -272,10 +297,12 @@ class TestErrors(unittest.TestCase):
     def test_unlike_kinds_and_too_many(self):
         long = (("test", 1), ((),) * 13)
         for ask in (tested_alike, parting_answers):
-            for other in (T("fn x: a. x"), T("fn t: b -> unit | unit. fn l: list a. l"), T("fn t: a -> a -> unit | unit. fn l: list a. l")):
+            for other in (T("fn x: a. x"), T("fn t: b -> unit | unit. fn l: list a. l"),
+                T("fn t: a -> a -> unit | unit. fn l: list a. l")):
                 self.raises(UnlikeKinds, [], ask, one=KEPT, two=other, shape=long)
             self.raises(TooMany, [13], ask, one=KEPT, two=ALL, shape=long)
-            self.raises(TooMany, [16], ask, one=T("fn t: a -> a -> unit | unit. fn l: list a. l"), two=T("fn t: a -> a -> unit | unit. fn l: list a. l"), shape=(("test", 2), ((),) * 4))
+            self.raises(TooMany, [16], ask, one=T("fn t: a -> a -> unit | unit. fn l: list a. l"),
+                two=T("fn t: a -> a -> unit | unit. fn l: list a. l"), shape=(("test", 2), ((),) * 4))
 
     def test_nothing_that_was_passed_is_changed(self):
         told_here = (KEPT, (("test", 1), ((), (), ())), ((YES, NO, YES),))

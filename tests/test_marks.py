@@ -36,9 +36,11 @@ NEITHER = (
     "a", "num", "list (a -> a)", "(a, b)", "a | b", "unit", "list a", "(a -> a, num)",
     "a -> b -> c -> a -> b -> c -> a -> num", "(a -> unit | unit) -> a -> b -> c -> a -> b -> c -> num",
     "(a -> a) -> a", "(num -> unit | unit) -> num", "(a -> num) -> a", "(a -> unit) -> a", "(a -> a -> num) -> a",
-    "(a -> b -> c -> unit | unit) -> a", "(list a -> unit | unit) -> a", "(a -> num -> unit | unit) -> a", "(num -> a -> unit | unit) -> a",
+    "(a -> b -> c -> unit | unit) -> a", "(list a -> unit | unit) -> a", "(a -> num -> unit | unit) -> a",
+    "(num -> a -> unit | unit) -> a",
     "((a, a) -> unit | unit) -> a", "(a -> unit | num) -> a", "(a -> num | unit) -> a", "(a -> (unit | unit) | unit) -> a",
-    "(a, b -> unit | unit) -> a", "a | (b -> unit | unit) -> a", "a -> list (a -> a)", "(a -> a, num) -> a", "a -> (num, a -> a)", "list (a -> unit | unit) -> a", "(a -> unit | unit, a) -> a",
+    "(a, b -> unit | unit) -> a", "a | (b -> unit | unit) -> a", "a -> list (a -> a)", "(a -> a, num) -> a", "a -> (num, a -> a)",
+    "list (a -> unit | unit) -> a", "(a -> unit | unit, a) -> a",
     "((a -> unit | unit) -> unit | unit) -> a", "(a -> list (unit | unit)) -> a", "(a -> unit | unit) -> list (a -> unit | unit)",
 )
 
@@ -107,7 +109,8 @@ class TestPlaces(unittest.TestCase):
             ("a", (), (("a", 1),)), ("num", 5, ()), ("unit", (), ()), ("(a, list a)", ("pair", (), ((), ())), (("a", 3),)),
             ("(b, a)", ("pair", (), ()), (("a", 1), ("b", 1))), ("a | b", ("left", ()), (("a", 1), ("b", 0))),
             ("a | b", ("right", ()), (("a", 0), ("b", 1))), ("list c", (), (("c", 0),)), ("list c", ((), (), ()), (("c", 3),)),
-            ("list (num, (c | unit))", (("pair", 1, ("left", ())), ("pair", 2, ("right", ())), ("pair", 3, ("left", ()))), (("c", 2),)),
+            ("list (num, (c | unit))", (("pair", 1, ("left", ())), ("pair", 2, ("right", ())), ("pair", 3, ("left", ()))),
+                (("c", 2),)),
             ("list (list (a, c))", ((), (("pair", (), ()), ("pair", (), ()))), (("a", 2), ("c", 2))),
             ("(list unit, b)", ("pair", ((), ()), ()), (("b", 1),)),
         )
@@ -137,7 +140,8 @@ class TestPlaces(unittest.TestCase):
             self.assertEqual(caught.exception.given, K(text))
 
     def test_no_values(self):
-        for text, value in (("a", 0), ("a", True), ("(a, b)", ((), ())), ("a | b", ("left", 3)), ("list a", [()]), ("list a", (0,)), ("num", ()), ("num", True)):
+        for text, value in (("a", 0), ("a", True), ("(a, b)", ((), ())), ("a | b", ("left", 3)), ("list a", [()]),
+            ("list a", (0,)), ("num", ()), ("num", True)):
             with self.assertRaises(InvalidValue) as caught:
                 places(K(text), value)
             self.assertIs(caught.exception.given, value)
@@ -151,9 +155,11 @@ class TestPlaces(unittest.TestCase):
 class TestShapes(unittest.TestCase):
     def test_shapes_of_arguments(self):
         rows = (
-            (TWICE, AS_NUM, ((5, 7),), (((), ()),)), (TWICE, AS_NUM, ((),), ((),)), (TWICE, (("a", ("list", NUM)),), (((5, 7), ()),), (((), ()),)),
+            (TWICE, AS_NUM, ((5, 7),), (((), ()),)), (TWICE, AS_NUM, ((),), ((),)),
+            (TWICE, (("a", ("list", NUM)),), (((5, 7), ()),), (((), ()),)),
             (SAME, AS_UNIT, (((), (), ()),), (((), (), ()),)),
-            (MIXED, (("a", NUM), ("b", ("pair", NUM, UNIT))), (("pair", 3, ("left", ("pair", 1, ()))), (("pair", ("pair", 2, ()), 4),)),
+            (MIXED, (("a", NUM), ("b", ("pair", NUM, UNIT))),
+                (("pair", 3, ("left", ("pair", 1, ()))), (("pair", ("pair", 2, ()), 4),)),
              (("pair", (), ("left", ())), (("pair", (), ()),))),
             (MIXED, (("a", NUM), ("b", UNIT)), (("pair", 3, ("right", -8)), ()), (("pair", (), ("right", -8)), ())),
             (T("fn n: num. fn l: list num. n"), (), (4, (5, 6)), (4, (5, 6))),
@@ -185,7 +191,8 @@ class TestShapes(unittest.TestCase):
              (("pair", 7, ("left", ())), (("pair", ((),), 8), ("pair", ((), ()), 7)))),
             (MIXED, (("pair", (), ("right", 9)), ()), filling, (("a", (-1,)), ("b", ())), (("pair", -1, ("right", 9)), ())),
             (T("fn n: num. n"), (5,), (), (), (5,)), (T("fn n: num. nil(c)"), (5,), (("c", NUM),), (), (5,)),
-            (T("fn x: a. fn y: c. fn z: a. y"), ((), (), ()), (("a", NUM), ("b", NUM), ("c", UNIT)), (("a", (1, 2)), ("c", ((),))), (1, (), 2)),
+            (T("fn x: a. fn y: c. fn z: a. y"), ((), (), ()), (("a", NUM), ("b", NUM), ("c", UNIT)),
+                (("a", (1, 2)), ("c", ((),))), (1, (), 2)),
         )
         for program, shape, filling, things, arguments in rows:
             self.assertEqual(laid(program, shape, filling, things), arguments)
@@ -194,7 +201,8 @@ class TestShapes(unittest.TestCase):
     def test_tables(self):
         rows = (
             (TWICE, (((), ()),), (0, 0, 1, 1)), (TWICE, ((),), ()), (MIXED, MIXED_SHAPE, (0, 1, 2)),
-            (T("fn p: (a, b). (second(p), first(p))"), (("pair", (), ()),), ("pair", 0, 0)), (T("fn n: num. fn x: a. n + 1"), (5, ()), 6),
+            (T("fn p: (a, b). (second(p), first(p))"), (("pair", (), ()),), ("pair", 0, 0)),
+            (T("fn n: num. fn x: a. n + 1"), (5, ()), 6),
             (T("fn n: num. fn l: list a. (n, l)"), (5, ((), ())), ("pair", 5, (0, 1))), (T("fn x: a. nil(b)"), ((),), ()),
             (T("fn e: a | a. case e {x. left(x, num); y. right(a, 4)}"), (("left", ()),), ("left", 0)),
             (T("fn e: a | a. case e {x. left(x, num); y. right(a, 4)}"), (("right", ()),), ("right", 4)),
@@ -209,11 +217,14 @@ class TestShapes(unittest.TestCase):
         filling = (("a", NUM), ("b", UNIT))
         things = (("a", (7, 8, 7)), ("b", ((), (), ())))
         rows = (
-            (TWICE, (((), ()),), (0, 0, 1, 1), AS_NUM, (("a", (5, 7)),), (5, 5, 7, 7)), (SAME, (((), ()),), (1,), AS_NUM, (("a", (5, 7)),), (7,)),
+            (TWICE, (((), ()),), (0, 0, 1, 1), AS_NUM, (("a", (5, 7)),), (5, 5, 7, 7)),
+            (SAME, (((), ()),), (1,), AS_NUM, (("a", (5, 7)),), (7,)),
             (SAME, ((),), (), AS_NUM, (("a", ()),), ()), (SAME, (((), ()),), (), AS_UNIT, (("a", ((), ())),), ()),
             (MIXED, MIXED_SHAPE, (2, 1, 0, 0), filling, things, (7, 8, 7, 7)),
-            (T("fn n: num. fn x: a. (n, x)"), (5, ()), ("pair", 99, 0), (("a", ("list", NUM)),), (("a", ((1, 2),)),), ("pair", 99, (1, 2))),
-            (T("fn x: a. fn y: b. (y, (x, nil(c)))"), ((), ()), ("pair", 0, ("pair", 0, ())), (("a", NUM), ("b", UNIT), ("c", NUM)),
+            (T("fn n: num. fn x: a. (n, x)"), (5, ()), ("pair", 99, 0), (("a", ("list", NUM)),), (("a", ((1, 2),)),),
+                ("pair", 99, (1, 2))),
+            (T("fn x: a. fn y: b. (y, (x, nil(c)))"), ((), ()), ("pair", 0, ("pair", 0, ())),
+                (("a", NUM), ("b", UNIT), ("c", NUM)),
              (("a", (4,)), ("b", ((),))), ("pair", (), ("pair", 4, ()))),
         )
         for program, shape, table, filling, things, answer in rows:
@@ -235,7 +246,8 @@ class TestShapes(unittest.TestCase):
 
 class TestTablesTellAll(unittest.TestCase):
     KINDS = (
-        "a", "(a, b)", "list a", "list a -> list a", "num -> list a -> list (a, num)", "(a, b) -> list a -> list b -> list (a | b)",
+        "a", "(a, b)", "list a", "list a -> list a", "num -> list a -> list (a, num)",
+        "(a, b) -> list a -> list b -> list (a | b)",
         "a | num -> unit -> (a | list num)", "list (list c) -> list c", "list (a, c) -> a | c -> (list c, list (b | a))",
     )
     FILLINGS = (
@@ -297,14 +309,17 @@ class TestErrors(unittest.TestCase):
         (("fn",), InvalidTerm, ()), (("fn", "x", A, ("name", "let")), InvalidTerm, (3, 1)), (("name", "x"), WrongTerm, ()),
         (T("fn x: a. x + 1"), WrongTerm, (3, 1)), (T("3"), NotFirst, NUM), (T("nil(a)"), NotFirst, ("list", A)),
         (T("fn f: a -> unit | unit. fn x: a. x"), NotFirst, K("(a -> unit | unit) -> a -> a")),
-        (T("fn s: a. fn t: a. fn u: a. fn v: a. fn w: a. fn x: a. fn y: a. x"), NotFirst, K("a -> a -> a -> a -> a -> a -> a -> a")),
+        (T("fn s: a. fn t: a. fn u: a. fn v: a. fn w: a. fn x: a. fn y: a. x"), NotFirst,
+            K("a -> a -> a -> a -> a -> a -> a -> a")),
         (chain(lambda part: ("minus", part), ("number", 1), 17), InvalidTerm, (1,) * 16), (None, InvalidTerm, ()),
     )
 
     def raises(self, error, kept, ask, **told):
         names = {
-            shape_of: ("program", "filling", "arguments"), marked: ("program", "shape"), laid: ("program", "shape", "filling", "things"),
-            table_of: ("program", "shape"), by_table: ("program", "shape", "table", "filling", "things"), alike_at: ("one", "two", "shape"),
+            shape_of: ("program", "filling", "arguments"), marked: ("program", "shape"),
+            laid: ("program", "shape", "filling", "things"),
+            table_of: ("program", "shape"), by_table: ("program", "shape", "table", "filling", "things"),
+            alike_at: ("one", "two", "shape"),
         }[ask]
         for run in (lambda: ask(**told), lambda: ask(*[told[name] for name in names])):
             with self.assertRaises(error) as caught:
@@ -325,8 +340,10 @@ class TestErrors(unittest.TestCase):
     def test_shapes(self):
         two = T("fn x: a. fn e: (num | a). e")
         rows = (
-            (None, None), ([(), ("left", 1)], None), (((),), None), (((), ("left", 1), ()), None), ((), None), ("", None), (5, None),
-            ((0, ("left", 1)), 0), ((0, 0), 0), (((), ("left", ())), 1), (((), ("right", 1)), 1), (((), ["right", ()]), 1), (((), ("left", True)), 1),
+            (None, None), ([(), ("left", 1)], None), (((),), None), (((), ("left", 1), ()), None), ((), None), ("", None),
+            (5, None),
+            ((0, ("left", 1)), 0), ((0, 0), 0), (((), ("left", ())), 1), (((), ("right", 1)), 1), (((), ["right", ()]), 1),
+            (((), ("left", True)), 1),
             ((("test", 1), ("left", 1)), 0), (([], ("left", 1)), 0),
         )
         for shape, index in rows:
@@ -349,12 +366,15 @@ class TestErrors(unittest.TestCase):
         good = (("a", NUM), ("b", NUM), ("c", NUM))
         self.assertEqual(by_table(program, shape, table, good, things), ("pair", 1, ()))
         rows = (
-            (None, None), ([], None), ((), None), (good[:2], None), (good[1:], None), ((good[0], good[2]), None), (good + good, 3),
-            ((good[1], good[0]), 1), ((("a", A),), 0), ((("a", NUM), ("b", ("fun", NUM, NUM)), ("c", NUM)), 1), ((("a", NUM), None), 1), (("a",), 0),
+            (None, None), ([], None), ((), None), (good[:2], None), (good[1:], None), ((good[0], good[2]), None),
+            (good + good, 3),
+            ((good[1], good[0]), 1), ((("a", A),), 0), ((("a", NUM), ("b", ("fun", NUM, NUM)), ("c", NUM)), 1),
+            ((("a", NUM), None), 1), (("a",), 0),
         )
         for filling, index in rows:
             self.raises(InvalidFilling, [index], laid, program=program, shape=shape, filling=filling, things=None)
-            self.raises(InvalidFilling, [index], by_table, program=program, shape=shape, table=table, filling=filling, things=None)
+            self.raises(InvalidFilling, [index], by_table, program=program, shape=shape, table=table, filling=filling,
+                things=None)
         for filling, index in ((None, None), ([], None), ((None,), 0), (good + good, 3), ((good[1], good[0]), 1)):
             self.raises(InvalidFilling, [index], shape_of, program=program, filling=filling, arguments=None)
 
@@ -364,8 +384,10 @@ class TestErrors(unittest.TestCase):
         self.assertEqual(shape_of(program, filling, (3, ("right", 4))), ((), ("right", 4)))
         self.assertEqual(shape_of(program, filling + (("c", NUM),), (3, ("left", ()))), ((), ("left", ())))
         rows = (
-            (None, None), ([3, ("right", 4)], None), ((), None), ((3,), None), ((None,), None), ("33", None), ((3, ("right", 4), 3), 2), ((True, ("right", 4)), 0),
-            ((True, ("right", ()), 4), 0), ((3, ("right", ())), 1), ((3, ("left", 3)), 1), ((3, ("right", ()), 4), 1), (((), ("left", ())), 0),
+            (None, None), ([3, ("right", 4)], None), ((), None), ((3,), None), ((None,), None), ("33", None),
+            ((3, ("right", 4), 3), 2), ((True, ("right", 4)), 0),
+            ((True, ("right", ()), 4), 0), ((3, ("right", ())), 1), ((3, ("left", 3)), 1), ((3, ("right", ()), 4), 1),
+            (((), ("left", ())), 0),
         )
         for arguments, index in rows:
             self.raises(InvalidArguments, [index], shape_of, program=program, filling=filling, arguments=arguments)
@@ -381,18 +403,23 @@ class TestErrors(unittest.TestCase):
         self.assertEqual(by_table(program, shape, table, filling, good), ("pair", 3, ()))
         rows = (
             (None, None), (list(good), None), ((), None), (good[:1], None), (good + (("b", ()),), None), ({}, None), ("ac", None),
-            ((("a", (3,)), good[1]), 0), ((("a", (3, 3, 3)), good[1]), 0), ((("a", [3, 3]), good[1]), 0), ((("a", (3, True)), None), 0), ((("b", (3, 3)), good[1]), 0),
-            ((good[1], good[0]), 0), ((good[0], good[0]), 1), ((good[0], ("b", ((), ()))), 1), ((good[0], ("c", ((), 0))), 1), ((good[0], ("c", ((),))), 1),
-            ((good[0], ["c", ((), ())]), 1), ((good[0], ("c", ((), ()), ())), 1), ((good[0], ("c",)), 1), ((good[0], None), 1), ((True, True), 0),
+            ((("a", (3,)), good[1]), 0), ((("a", (3, 3, 3)), good[1]), 0), ((("a", [3, 3]), good[1]), 0),
+            ((("a", (3, True)), None), 0), ((("b", (3, 3)), good[1]), 0),
+            ((good[1], good[0]), 0), ((good[0], good[0]), 1), ((good[0], ("b", ((), ()))), 1), ((good[0], ("c", ((), 0))), 1),
+            ((good[0], ("c", ((),))), 1),
+            ((good[0], ["c", ((), ())]), 1), ((good[0], ("c", ((), ()), ())), 1), ((good[0], ("c",)), 1), ((good[0], None), 1),
+            ((True, True), 0),
         )
         for things, index in rows:
             self.raises(InvalidThings, [index], laid, program=program, shape=shape, filling=filling, things=things)
-            self.raises(InvalidThings, [index], by_table, program=program, shape=shape, table=table, filling=filling, things=things)
+            self.raises(InvalidThings, [index], by_table, program=program, shape=shape, table=table, filling=filling,
+                things=things)
         for thing in odd_things():
             self.raises(InvalidThings, [1], laid, program=program, shape=shape, filling=filling, things=(good[0], thing))
             self.raises(InvalidThings, [0], laid, program=program, shape=shape, filling=filling, things=(("a", thing), good[1]))
             if thing != "a":
-                self.raises(InvalidThings, [0], laid, program=program, shape=shape, filling=filling, things=((thing, (3, 3)), good[1]))
+                self.raises(InvalidThings, [0], laid, program=program, shape=shape, filling=filling,
+                    things=((thing, (3, 3)), good[1]))
             if not isinstance(thing, tuple):
                 self.raises(InvalidThings, [None], laid, program=program, shape=shape, filling=filling, things=thing)
 
@@ -406,10 +433,13 @@ class TestErrors(unittest.TestCase):
     def test_tables(self):
         program = T("fn x: a. fn l: list b. (x, (nil(b), 3))")
         shape, filling, things = ((), ((), ())), (("a", NUM), ("b", NUM)), (("a", (7,)), ("b", (8, 9)))
-        self.assertEqual(by_table(program, shape, ("pair", 0, ("pair", (1, 0), -5)), filling, things), ("pair", 7, ("pair", (9, 8), -5)))
+        self.assertEqual(by_table(program, shape, ("pair", 0, ("pair", (1, 0), -5)), filling, things),
+            ("pair", 7, ("pair", (9, 8), -5)))
         for table in (
-            ("pair", 1, ("pair", (), 3)), ("pair", -1, ("pair", (), 3)), ("pair", 0, ("pair", (2,), 3)), ("pair", 0, ("pair", (0, 1, -1), 3)),
-            ("pair", 0, ("pair", (0, True), 3)), ("pair", False, ("pair", (), 3)), ("pair", (), ("pair", (), 3)), ("pair", 0, ("pair", (), ())),
+            ("pair", 1, ("pair", (), 3)), ("pair", -1, ("pair", (), 3)), ("pair", 0, ("pair", (2,), 3)),
+            ("pair", 0, ("pair", (0, 1, -1), 3)),
+            ("pair", 0, ("pair", (0, True), 3)), ("pair", False, ("pair", (), 3)), ("pair", (), ("pair", (), 3)),
+            ("pair", 0, ("pair", (), ())),
             ["pair", 0, ("pair", (), 3)], ("pair", 0, ((), 3)), None, 0, (),
         ):
             self.raises(InvalidTable, [table], by_table, program=program, shape=shape, table=table, filling=None, things=None)

@@ -35,7 +35,8 @@ ROWS = (
     ("(fn f: num -> num. fn y: num. f(f(y)))(fn x: num. x * x)", (), (3,), 81),
     ("(fn g: (num -> num) -> num -> num. g(g(fn x: num. x + 1)))(fn f: num -> num. fn y: num. f(f(y)))(0)", (), (), 4),
     ("let y = 1 in let f = fn x: num. x + y in let y = 100 in f(y)", (), (), 101),
-    ("let k = fn x: num. fn y: num. x * 10 + y in let one = k(1) in let two = k(2) in (one(3), two(4))", (), (), ("pair", 13, 24)),
+    ("let k = fn x: num. fn y: num. x * 10 + y in let one = k(1) in let two = k(2) in (one(3), two(4))", (), (),
+        ("pair", 13, 24)),
     ("fn f: num -> num. f(5)", (), ("fn x: num. x * x",), 25),
     ("fn f: (num -> num) -> num. f(fn x: num. x + 1)", (), ("fn g: num -> num. g(g(5))",), 7),
     ("fn f: a -> a. fn x: a. f(f(x))", AS_NUM, ("fn x: num. x * 3", 2), 18),
@@ -158,6 +159,24 @@ class TestRows(unittest.TestCase):
         for row, answer in (((), 2), ((5,), 14), ((5, 3), 34)):
             self.assertEqual(told(T(text), (), (row,)), answer)
 
+    def test_what_leads_a_step_to_a_step_leads_a_fold_to_a_fold(self):
+        # h of z is w, and h of what f tells of x and r is what g tells of x and of h of r.
+        rows = (
+            ("fn x: num. fn r: list num. cons(x, cons(x, r))", "nil(num)", "fn x: num. fn n: num. n + 2 * x", "0",
+                "fn r: list num. fold(fn x: num. fn n: num. x + n, 0, r)"),
+            ("fn x: num. fn n: num. x + n", "1", "fn x: num. fn n: num. 3 * x + n", "3", "fn n: num. n * 3"),
+            ("fn x: num. fn r: list num. cons(-x, r)", "nil(num)",
+                "fn x: num. fn e: unit | unit. case x < 0 {u. left(u, unit); u. e}", "right(unit, ())",
+             "fn r: list num. fold(fn x: num. fn e: unit | unit. case 0 < x {u. left(u, unit); u. e}, right(unit, ()), r)"),
+            ("fn x: num. fn p: (num, num). (second(p), first(p) + x)", "(1, 2)", "fn x: num. fn n: num. n + x", "3",
+                "fn p: (num, num). first(p) + second(p)"),
+        )
+        for f, z, g, w, h in rows:
+            here, there = T(f"fn l: list num. ({h})(fold({f}, {z}, l))"), T(f"fn l: list num. fold({g}, {w}, l)")
+            for length in range(5):
+                for row in itertools.product((-2, 0, 5), repeat=length):
+                    self.assertEqual(told(here, (), (row,)), told(there, (), (row,)))
+
     def test_folds_of_many_things(self):
         total = T("fn l: list num. fold(fn x: num. fn s: num. x + s, 0, l)")
         self.assertEqual(told(total, (), (tuple(range(10000)),)), 49995000)
@@ -214,10 +233,12 @@ class TestCounted(unittest.TestCase):
         kind = read_kind("a -> b -> c -> (a -> b) -> (b -> a -> b) -> list b -> (b, list b)")
         asked, left = row_of(filled(kind, self.FILLING))
         ones = [T(text) for text in (
-            "fn x: num. nil(unit)", "fn x: num. cons((), cons((), nil(unit)))", "fn n: num. case n < 3 {x. cons(x, nil(unit)); x. nil(unit)}",
+            "fn x: num. nil(unit)", "fn x: num. cons((), cons((), nil(unit)))",
+            "fn n: num. case n < 3 {x. cons(x, nil(unit)); x. nil(unit)}",
         )]
         twos = [T(text) for text in (
-            "fn l: list unit. fn n: num. l", "fn l: list unit. fn n: num. cons((), l)", "fn l: list unit. (fn k: num -> list unit. k)(fn n: num. l)",
+            "fn l: list unit. fn n: num. l", "fn l: list unit. fn n: num. cons((), l)",
+            "fn l: list unit. (fn k: num -> list unit. k)(fn n: num. l)",
             "fn l: list unit. fn n: num. fold(fn u: unit. fn r: list unit. cons(u, cons(u, r)), nil(unit), l)",
         )]
         ran = 0
@@ -237,7 +258,8 @@ class TestCounted(unittest.TestCase):
 
 class TestErrors(unittest.TestCase):
     def raises(self, error, kept, program, filling, arguments):
-        for ask in (lambda: told(program, filling, arguments), lambda: told(arguments=arguments, filling=filling, program=program)):
+        for ask in (lambda: told(program, filling, arguments),
+            lambda: told(arguments=arguments, filling=filling, program=program)):
             with self.assertRaises(error) as caught:
                 ask()
             self.assertIs(type(caught.exception), error)
@@ -260,7 +282,8 @@ class TestErrors(unittest.TestCase):
         self.assertEqual(told(("nil", kind[1]), (), ()), ())
         sevens = chain(lambda part: ("pair", part, part), ("unit",), 6)
         self.assertEqual(parts_of(sevens), 63)
-        many = ("pair", sevens, ("pair", chain(lambda part: ("pair", part, part), ("unit",), 5), ("pair", ("minus", ("number", 1)), chain(
+        many = ("pair", sevens, ("pair", chain(lambda part: ("pair", part, part), ("unit",), 5),
+            ("pair", ("minus", ("number", 1)), chain(
             lambda part: ("pair", part, part), ("unit",), 4))))
         self.assertEqual(parts_of(many), 114)
         fitting = ("first", ("first", ("pair", ("pair", many, ("unit",)), ("unit",))))
@@ -333,7 +356,8 @@ class TestErrors(unittest.TestCase):
         good = T("fn x: num. x")
         self.assertEqual(told(asks, AS_NUM, (good, 4)), 4)
         wrong = (
-            T("fn x: unit. 3"), T("fn x: a. 3"), T("fn x: num. ()"), T("fn x: num. y"), T("3"), T("fn x: num. x(x)"), 3, (), None, "fn x: num. x",
+            T("fn x: unit. 3"), T("fn x: a. 3"), T("fn x: num. ()"), T("fn x: num. y"), T("3"), T("fn x: num. x(x)"), 3, (), None,
+            "fn x: num. x",
             ("fn", "x", NUM, ("name", "fn")), ["fn", "x", NUM, ("name", "x")], len, lambda x: x,
             ("fn", "x", NUM, chain(lambda part: ("minus", part), ("name", "x"), 16)),
         )

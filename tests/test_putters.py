@@ -35,7 +35,8 @@ TURNED = "fn l: list a. fold(fn x: a. fn f: list a -> list a. fn r: list a. f(co
 ROUND_OF = ROUND.removeprefix("fn l: list a. ").replace("(a, list a)), l)", "(a, list a)), @)")
 PIECES = (
     "@", TURNED.removeprefix("fn l: list a. ").replace("r, l)", "r, @)"), ROUND_OF, f"fold({INTO}, nil(a), @)",
-    ROUND_OF.replace("cons(second(t)", "cons(first(t)"), ROUND_OF.replace("(first(t), cons(second(t)", "(second(t), cons(first(t)"),
+    ROUND_OF.replace("cons(second(t)", "cons(first(t)"),
+    ROUND_OF.replace("(first(t), cons(second(t)", "(second(t), cons(first(t)"),
     "fold(fn x: a. fn r: list a. cons(first(p((x, x))), r), nil(a), @)",
     f"fold({INTO.replace('cons(first(q), f(second(q)))', 'cons(second(q), f(first(q)))')}, nil(a), @)",
 )
@@ -64,8 +65,10 @@ def counted_lists(length, many):
 class TestPutBy(unittest.TestCase):
     def test_each_row(self):
         rows = (
-            (SAME, (), ()), (SAME, (3, 1, 2), (3, 1, 2)), (NOTHING, (3, 1, 2), ()), (DOUBLE, (3, 1), (3, 3, 1, 1)), (BACK, (3, 1, 2), (2, 1, 3)),
-            (SORT, (), ()), (SORT, (5,), (5,)), (SORT, (3, 1, 2), (1, 2, 3)), (SORT, (2, -1, 2, 0, -1), (-1, -1, 0, 2, 2)), (LEAST_FIRST, (3, 1, 2), (1, 3, 2)),
+            (SAME, (), ()), (SAME, (3, 1, 2), (3, 1, 2)), (NOTHING, (3, 1, 2), ()), (DOUBLE, (3, 1), (3, 3, 1, 1)),
+            (BACK, (3, 1, 2), (2, 1, 3)),
+            (SORT, (), ()), (SORT, (5,), (5,)), (SORT, (3, 1, 2), (1, 2, 3)), (SORT, (2, -1, 2, 0, -1), (-1, -1, 0, 2, 2)),
+            (LEAST_FIRST, (3, 1, 2), (1, 3, 2)),
             (TWO_ROUNDS, (3, 1, 2), (1, 2, 3)), (LEAST_FIRST, (2, 2, 2), (2, 2, 2)), (OTHER_VARIABLE, (2, 1), (2, 1)),
             (T("fn p: (a, a) -> (a, a). fn l: list a. fold(fn x: a. fn r: list a. let q = p((x, x)) in cons(first(q), r), nil(a), l)"), (3, 1), (3, 1)),
             (T("fn p: (c, c) -> (c, c). fn l: list c. fold(fn x: c. fn r: list c. fold(fn y: c. fn s: list c. cons(second(p((x, y))), s), nil(c), l), nil(c), l)"),
@@ -103,8 +106,10 @@ class TestPutBy(unittest.TestCase):
 class TestOrder(unittest.TestCase):
     def test_each_row(self):
         rows = (
-            (SAME, (True, True, False, False), (1, 0)), (NOTHING, (True, False, False, False), (0,)), (DOUBLE, (True, False, False), (0,)),
-            (LEAST_FIRST, (True, True, True, False, False), (1, 0, 0)), (TWO_ROUNDS, (True, True, True, True, False), (1, 0, 0, 0)),
+            (SAME, (True, True, False, False), (1, 0)), (NOTHING, (True, False, False, False), (0,)),
+            (DOUBLE, (True, False, False), (0,)),
+            (LEAST_FIRST, (True, True, True, False, False), (1, 0, 0)),
+            (TWO_ROUNDS, (True, True, True, True, False), (1, 0, 0, 0)),
             (SORT, (True,) * 9, None), (BACK, (True, True, False, False), (0, 1)),
         )
         for program, known, first in rows:
@@ -146,7 +151,8 @@ class TestOrder(unittest.TestCase):
             for length in (3, 4):
                 wrong = [row for row in lists_in_order(length) if put_again(program, row) != tuple(sorted(row))]
                 self.assertEqual(out_of_order(program, length), wrong[0] if wrong else None)
-                every = all(put_by(program, row) == tuple(sorted(row)) for row in itertools.product((-1, 4, 7, 7, 9)[:length + 1], repeat=length))
+                every = all(put_by(program, row) == tuple(sorted(row)) for row in itertools.product((-1, 4, 7, 7, 9)[:length + 1],
+                    repeat=length))
                 self.assertIs(puts_in_order(program, length), every)
                 counts[every] += 1
         self.assertGreater(min(counts), 12)
@@ -171,17 +177,20 @@ class TestErrors(unittest.TestCase):
             self.assertEqual(list(vars(caught.exception).values()), [kept])
 
     def test_programs(self):
-        rows = [(("fn",), InvalidTerm, ()), (None, InvalidTerm, ()), (("name", "x"), WrongTerm, ()), (T("fn x: a. x + 1"), WrongTerm, (3, 1))]
+        rows = [(("fn",), InvalidTerm, ()), (None, InvalidTerm, ()), (("name", "x"), WrongTerm, ()),
+            (T("fn x: a. x + 1"), WrongTerm, (3, 1))]
         for text, kind in (
             ("3", "num"), ("fn l: list a. l", "list a -> list a"), ("fn p: (a, a) -> (a, a). 3", "((a, a) -> (a, a)) -> num"),
             ("fn p: (a, b) -> (a, b). fn l: list a. l", "((a, b) -> (a, b)) -> list a -> list a"),
             ("fn p: (a, a) -> (a, a). fn l: list b. l", "((a, a) -> (a, a)) -> list b -> list b"),
             ("fn p: (num, num) -> (num, num). fn l: list num. l", "((num, num) -> (num, num)) -> list num -> list num"),
-            ("fn p: (a, a) -> a. fn l: list a. l", "((a, a) -> a) -> list a -> list a"), ("fn l: list a. fn p: (a, a) -> (a, a). l", "list a -> ((a, a) -> (a, a)) -> list a"),
+            ("fn p: (a, a) -> a. fn l: list a. l", "((a, a) -> a) -> list a -> list a"),
+            ("fn l: list a. fn p: (a, a) -> (a, a). l", "list a -> ((a, a) -> (a, a)) -> list a"),
             ("fn p: (a, a) -> (a, a). fn l: list a. fn m: list a. l", "((a, a) -> (a, a)) -> list a -> list a -> list a"),
             ("fn p: (a, a) -> (a, a). fn l: list a. (l, l)", "((a, a) -> (a, a)) -> list a -> (list a, list a)"),
             ("fn p: a -> a -> unit | unit. fn l: list a. l", "(a -> a -> unit | unit) -> list a -> list a"),
-            ("fn p: (list a, list a) -> (list a, list a). fn l: list (list a). l", "((list a, list a) -> (list a, list a)) -> list (list a) -> list (list a)"),
+            ("fn p: (list a, list a) -> (list a, list a). fn l: list (list a). l",
+                "((list a, list a) -> (list a, list a)) -> list (list a) -> list (list a)"),
         ):
             rows.append((T(text), NotPutting, K(kind)))
         for program, error, kept in rows:
@@ -198,7 +207,8 @@ class TestErrors(unittest.TestCase):
 
     def test_numbers(self):
         rows = (
-            (None, None), ([1, 2], None), ({1}, None), ("12", None), (12, None), ((1, True), 1), ((False,), 0), ((1, 2, "3", None), 2), (((),), 0), ((1, (2,)), 1), ((None,) * 40, 0),
+            (None, None), ([1, 2], None), ({1}, None), ("12", None), (12, None), ((1, True), 1), ((False,), 0),
+            ((1, 2, "3", None), 2), (((),), 0), ((1, (2,)), 1), ((None,) * 40, 0),
             ((None,) * 41, None), ((1,) * 41, None),
         )
         for numbers, index in rows:

@@ -21,7 +21,8 @@ from things import A, B, C, NUM, UNIT
 
 UNITS = {"a": UNIT, "b": UNIT, "c": UNIT}
 KINDS = ("list a", "(a, num) -> list b -> (a, list b)", "list a -> a | b -> list (a | b)", "num -> list (c, a) -> list c")
-FILLINGS = ((("a", NUM), ("b", ("list", UNIT)), ("c", UNIT)), (("a", ("pair", NUM, UNIT)), ("b", NUM), ("c", ("either", NUM, UNIT))))
+FILLINGS = ((("a", NUM), ("b", ("list", UNIT)), ("c", UNIT)),
+    (("a", ("pair", NUM, UNIT)), ("b", NUM), ("c", ("either", NUM, UNIT))))
 
 
 def programs():
@@ -61,7 +62,8 @@ class TestWhole(unittest.TestCase):
                 self.assertEqual(shape_of(program, filling, arguments), shape)
                 answer = told(program, filling, arguments)
                 self.assertEqual(by_table(program, shape, table, filling, things), answer)
-                for claim, paper in (certify_kind(program), certify_told(program, filling, arguments), certify_table(program, shape)):
+                for claim, paper in (certify_kind(program), certify_told(program, filling, arguments),
+                    certify_table(program, shape)):
                     self.assertTrue(accepts(claim, paper))
                 run = (filling, arguments, answer)
                 self.assertTrue(accepts(("some tells", kind, (run,)), program))
@@ -81,7 +83,8 @@ class TestWhole(unittest.TestCase):
                 continue
             asked, left = row_of(kind)
             drawn = {var: pairs[number % len(pairs)] for var, _, _, pairs in relation}
-            ones, twos = (tuple(replaced(part, value, lambda var, _: drawn[var][side]) for part, value in zip(asked, shape_from(kind, number))) for side in (0, 1))
+            ones, twos = (tuple(replaced(part, value, lambda var, _: drawn[var][side]) for part,
+                value in zip(asked, shape_from(kind, number))) for side in (0, 1))
             one, two = both_told(program, relation, ones, twos)
             before, behind = fillings(relation)
             self.assertEqual((one, two), (told(program, before, ones), told(program, behind, twos)))
